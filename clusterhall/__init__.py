@@ -1,0 +1,1 @@
+"""Clusterhall: houses that run gangs of tasks, by rank and share."""
