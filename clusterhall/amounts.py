@@ -16,12 +16,12 @@ def nothing_of(wares):
 
 def amount_sum(one, other):
     """Both amounts together."""
-    return tuple(a + b for a, b in zip(one, other))
+    return tuple([a + b for a, b in zip(one, other)])
 
 
 def amount_less(one, other):
     """One less other, which fits in one."""
-    return tuple(a - b for a, b in zip(one, other))
+    return tuple([a - b for a, b in zip(one, other)])
 
 
 def amount_fits(one, other):
@@ -31,12 +31,12 @@ def amount_fits(one, other):
 
 def amount_times(one, n):
     """An amount n times."""
-    return tuple(a * n for a in one)
+    return tuple([a * n for a in one])
 
 
 def amount_least(one, other):
     """Ware by ware the lesser of both amounts."""
-    return tuple(min(a, b) for a, b in zip(one, other))
+    return tuple([a if a < b else b for a, b in zip(one, other)])
 
 
 def most_times(want, room):

@@ -18,6 +18,16 @@ def rank_of(gang):
     return gang[2]
 
 
+def want_of(gang):
+    """The amount that each task of a gang wants."""
+    return gang[4]
+
+
+def length_of(gang):
+    """How long a gang goes."""
+    return gang[6]
+
+
 def whole_of(gang):
     """The amount that all tasks of a gang want together."""
     name, guild, rank, many, want, how, length = gang

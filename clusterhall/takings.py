@@ -1,14 +1,25 @@
 """Takings: how a gang could be placed, if others left for it."""
 
+from clusterhall.gangs import length_of
 from clusterhall.placing import placed
 
 TOLD = "told"
 
 
+def site_at(estate, gang, begin):
+    """The site for a gang's stretch from a begin on."""
+    return estate.site_for(begin, begin + length_of(gang))
+
+
+def place_in(site, gang):
+    """What placed tells of a gang in a site."""
+    name, guild, rank, many, want, how, length = gang
+    return placed(site, many, want, how)
+
+
 def place_at(estate, gang, begin):
     """What placed tells of a gang in the site for its stretch from a begin on."""
-    name, guild, rank, many, want, how, length = gang
-    return placed(estate.site_for(begin, begin + length), many, want, how)
+    return place_in(site_at(estate, gang, begin), gang)
 
 
 def place_without(estate, names, gang, begin):
@@ -16,14 +27,19 @@ def place_without(estate, names, gang, begin):
     return place_but(estate, names, [], gang, begin)
 
 
-def place_but(estate, names, plans, gang, begin):
-    """What place_without would tell, weren't the plans booked."""
+def twin_but(estate, names, plans, begin):
+    """A twin of an estate, where the gangs of these names are cut to a begin, and the plans aren't booked."""
     twin = estate.twin_estate()
     for name in names:
         twin.cut_gang(name, begin)
     for name in plans:
         twin.drop_gang(name)
-    return place_at(twin, gang, begin)
+    return twin
+
+
+def place_but(estate, names, plans, gang, begin):
+    """What place_without would tell, weren't the plans booked."""
+    return place_at(twin_but(estate, names, plans, begin), gang, begin)
 
 
 def is_told(pair):

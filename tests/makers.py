@@ -1,6 +1,7 @@
-"""Short ways to make gangs and estates, for the tests."""
+"""Short ways to make gangs, estates and halls, for the tests."""
 
 from clusterhall.estate import Estate
+from clusterhall.hall import Hall
 
 
 def gang_of(name, guild="g", rank=0, many=1, want=(1,), how="any", length=10):
@@ -33,4 +34,33 @@ def all_of(estate, times=range(0, 41)):
         [estate.house_loads(time) for time in times],
         [estate.site_for(time, time + 1) for time in times],
         [(estate.edge_after(time), estate.end_after(time)) for time in times],
+    )
+
+
+def hall_of(*houses, grace=5, **dues):
+    """A hall with houses (name, yard, room), and guilds with their dues; a guild g with a due of 0 where none is told."""
+    hall = Hall(1, grace)
+    for guild, due in (dues or {"g": (0,)}).items():
+        hall.step(("guild", guild, due))
+    for house in houses:
+        hall.step(("house", *house))
+    return hall
+
+
+def all_of_hall(hall, times=range(0, 41)):
+    """All that a hall tells, to see whether it is the same later."""
+    return (
+        hall.time_now(),
+        hall.grace_told(),
+        hall.waiting_gangs(),
+        hall.gang_rows(),
+        [hall.gang_of(row[0]) for row in hall.gang_rows()],
+        hall.taking_rows(),
+        hall.barred_rows(),
+        hall.due_rows(),
+        hall.kind_rows(),
+        all_of(hall.estate_now(), times),
+        hall.share_rows(),
+        hall.leavable_names(),
+        hall.history_rows(),
     )

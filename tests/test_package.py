@@ -19,6 +19,13 @@ FUNCTIONS = {
     "takings.py": ["place_at(estate, gang, begin)", "place_without(estate, names, gang, begin)",
                    "place_but(estate, names, plans, gang, begin)", "taking_for(estate, names, gang, begin)",
                    "shows_taking(estate, names, gang, begin)", "bars_for(estate, names, plans, gang, begin)"],
+    "fetching.py": ["fetched_of(estate, name)", "fits_with(estate, kind, n, gang, begin)",
+                    "least_more(estate, kind, gang, begin)", "best_fetch(estate, kinds, gang, begin)",
+                    "spare_houses(estate, gangs)"],
+    "reasons.py": ["reason_of(hall, name)", "shows_reason(hall, name, reason)",
+                   "unfair(estate, dues, rows, names, gangs, now, grace)", "overborne(room, rows)",
+                   "fetch_for(hall, name)", "spare_now(hall)"],
+    "stories.py": ["run(text)"],
 }
 CLASSES = {
     "errors.py": {name: [] for name in ["HallError", "Taken", "NoKey", "TooMuch", "NoHouse", "NoGang", "NoGuild",
@@ -35,7 +42,14 @@ CLASSES = {
                              "site_for(self, begin, end)", "whole_site(self)", "booked_rows(self)",
                              "house_rows(self)", "house_loads(self, time)", "entries_in(self, name)",
                              "edge_after(self, time)", "end_after(self, time)", "twin_estate(self)"]},
+    "hall.py": {"Hall": ["__init__(self, wares, grace)", "step(self, event)", "time_now(self)", "grace_told(self)",
+                         "waiting_gangs(self)", "gang_rows(self)", "gang_of(self, name)", "taking_rows(self)",
+                         "barred_rows(self)", "due_rows(self)", "kind_rows(self)", "estate_now(self)",
+                         "share_rows(self)", "leavable_names(self)", "history_rows(self)"]},
 }
+BUILTIN_METHODS = ["append", "get", "items", "join", "split", "values"]
+BUILTINS = ["len", "range", "enumerate", "zip", "min", "max", "sum", "abs", "sorted", "reversed", "int", "str", "bool",
+            "list", "tuple", "dict", "set", "isinstance", "any", "all", "super"]
 BARRED_WORDS = ["type", "typing", "enum", "Flag", "Generic", "Protocol", "ABC", "namedtuple"]
 
 
@@ -130,6 +144,31 @@ class Files(unittest.TestCase):
                 methods |= {part.name for part in node.body if isinstance(part, ast.FunctionDef)}
             attributes |= {node.attr for node in nodes_of(path.name, ast.Attribute) if isinstance(node.ctx, ast.Store)}
         self.assertEqual(methods & attributes, set())
+
+    def test_attributes_that_are_read_are_assigned(self):
+        methods, assigned, read = set(), set(), {}
+        for path in files():
+            for node in nodes_of(path.name, ast.ClassDef):
+                methods |= {part.name for part in node.body if isinstance(part, ast.FunctionDef)}
+            for node in nodes_of(path.name, ast.Attribute):
+                if isinstance(node.ctx, ast.Store):
+                    assigned.add(node.attr)
+                else:
+                    read[node.attr] = path.name
+        unknown = {name: read[name] for name in read if name not in methods | assigned | set(BUILTIN_METHODS)}
+        self.assertEqual(unknown, {})
+
+    def test_strings(self):
+        for path in files():
+            for node in nodes_of(path.name, ast.Constant):
+                if isinstance(node.value, str):
+                    self.assertNotIn(chr(37), node.value, f"{path.name}:{node.lineno}")
+
+    def test_no_clock_chance_files_or_other_builtins(self):
+        known = set(BUILTINS)
+        for path in files():
+            calls = {node.func.id for node in nodes_of(path.name, ast.Call) if isinstance(node.func, ast.Name)}
+            self.assertEqual([name for name in calls if name in dir(builtins) and name not in known], [], path.name)
 
     def test_barred_words(self):
         for path in files():
