@@ -55,7 +55,7 @@ class Estate:
     def book_gang(self, gang, placing, begin):
         """Books a gang in all houses of a placing, or in none."""
         name, guild, rank, many, want, how, length = gang
-        if name in self.placings:
+        if self.is_booked(name):
             raise Taken(f"the gang {name} is booked")
         books = self.twin_books([house for house, n in placing])
         for house, n in sorted(placing):
@@ -154,9 +154,13 @@ class Estate:
         """The pairs (name, house) of the open houses, by rising names."""
         return [(name, house) for name, house in self.rising_houses() if house.state == OPEN]
 
+    def is_booked(self, name):
+        """Whether a gang is booked."""
+        return name in self.placings
+
     def placing_of(self, name):
         """The placing of a gang that is booked; refused with NoGang."""
-        if name not in self.placings:
+        if not self.is_booked(name):
             raise NoGang(f"the gang {name} isn't booked")
         return self.placings[name]
 
@@ -171,7 +175,7 @@ class Estate:
         """Keeps where a gang has entries; one that has none isn't booked."""
         if pairs:
             self.placings[name] = tuple(pairs)
-        elif name in self.placings:
+        elif self.is_booked(name):
             del self.placings[name]
 
     def twin_books(self, names):

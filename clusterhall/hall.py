@@ -233,7 +233,7 @@ class Hall:
     def drop_member(self, name):
         """Lets a gang be gone, with its entries."""
         state = self.member_of(name).state
-        if state != WAITS:
+        if self.estate.is_booked(name):
             self.estate.drop_gang(name)
         self.forget_taking(name)
         del self.members[name]
@@ -338,8 +338,8 @@ class Hall:
             return False
         some, placing = call
         for name, ground in some:
-            self.tell_to_leave(name, begin)
             self.takings.append((name, name_of(gang), ground))
+            self.tell_to_leave(name, begin)
         self.estate.book_gang(gang, placing, begin)
         member = self.members[name_of(gang)]
         self.number_begun(member)
@@ -349,9 +349,12 @@ class Hall:
 
     def tell_to_leave(self, name, time):
         """Lets a gang that goes stay till a time only."""
-        self.estate.cut_gang(name, time)
         member = self.members[name]
         member.state = LEAVES
+        self.estate.cut_gang(name, time)
+        # Were there no grace at all, one that begins just now would have no stretch left.
+        if not self.estate.is_booked(name):
+            self.wait_again(name)
 
     def member_of(self, name):
         """The member of a name; refused with NoGang."""

@@ -27,12 +27,18 @@ def place_without(estate, names, gang, begin):
     return place_but(estate, names, [], gang, begin)
 
 
+def booked_of(estate, names):
+    """Those of the names whose gangs are booked."""
+    return [name for name in names if estate.is_booked(name)]
+
+
 def twin_but(estate, names, plans, begin):
     """A twin of an estate, where the gangs of these names are cut to a begin, and the plans aren't booked."""
     twin = estate.twin_estate()
-    for name in names:
+    # One without any tasks isn't booked, and so there is nothing to be cut or dropped.
+    for name in booked_of(twin, names):
         twin.cut_gang(name, begin)
-    for name in plans:
+    for name in booked_of(twin, plans):
         twin.drop_gang(name)
     return twin
 

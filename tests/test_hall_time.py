@@ -327,6 +327,20 @@ class Rounds(unittest.TestCase):
         self.assertEqual(hall.step(("gang", gang_of("b", guild="h", rank=3, length=50))), [
             ("begun", 0, "b", (("o", 1),)), ("called", 0, "a", 5, (("o", 4),), (("l", "share"),))])
 
+    def test_a_round_at_the_told_time(self):
+        # At 3 z could begin at 8 without any taking. At 4 that isn't so any more, as p begins at 18, and 4 is no
+        # stop: so z is called just where a step comes there.
+        def hall_at_three():
+            hall = hall_of(("o", "x", (4,)))
+            for name, rank, many, length in (("e", 9, 2, 8), ("n", 0, 1, 100)):
+                hall.step(("gang", gang_of(name, rank=rank, many=many, length=length)))
+            hall.step(("plan", gang_of("p"), 18))
+            hall.step(("time", 3))
+            self.assertEqual(hall.step(("gang", gang_of("z", rank=5, many=3))), [])
+            return hall
+        self.assertEqual(hall_at_three().step(("time", 8)), [("ended", 8, "e"), ("begun", 8, "z", (("o", 3),))])
+        self.assertEqual(hall_at_three().step(("time", 4)), [("called", 4, "z", 9, (("o", 3),), (("n", "rank"),))])
+
     def test_wants_of_each_how(self):
         for how, placing in (("any", (("o", 2), ("p", 1))), ("near", (("p", 3),)), ("wide", (("o", 1), ("p", 1), ("r", 1)))):
             hall = hall_of(("o", "x", (2,)), ("p", "y", (3,)), ("r", "z", (1,)))

@@ -50,7 +50,9 @@ CLASSES = {
 BUILTIN_METHODS = ["append", "get", "items", "join", "split", "values"]
 BUILTINS = ["len", "range", "enumerate", "zip", "min", "max", "sum", "abs", "sorted", "reversed", "int", "str", "bool",
             "list", "tuple", "dict", "set", "isinstance", "any", "all", "super"]
-BARRED_WORDS = ["type", "typing", "enum", "Flag", "Generic", "Protocol", "ABC", "namedtuple"]
+BARRED_WORDS = ["type", "typing", "typing_extensions", "enum", "Enum", "IntEnum", "StrEnum", "Flag", "IntFlag", "Generic",
+                "Protocol", "ABC", "ABCMeta", "namedtuple", "NamedTuple", "TypedDict", "TYPE_CHECKING", "abstractmethod"]
+BARRED_PARTS = ["dataclass", "overload", "contextmanager"]
 
 
 def files():
@@ -172,8 +174,9 @@ class Files(unittest.TestCase):
 
     def test_barred_words(self):
         for path in files():
-            words = re.findall(r"\w+", path.read_text(encoding="utf-8"))
-            self.assertEqual([word for word in words if word in BARRED_WORDS], [], path.name)
+            text = path.read_text(encoding="utf-8")
+            self.assertEqual([word for word in re.findall(r"\w+", text) if word in BARRED_WORDS], [], path.name)
+            self.assertEqual([part for part in BARRED_PARTS if part in text], [], path.name)
 
 
 if __name__ == "__main__":

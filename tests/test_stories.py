@@ -405,9 +405,11 @@ class BesideTheHall(unittest.TestCase):
         if name not in [gang[0] for gang in hall.waiting_gangs()]:
             return "refused NoGang"
         word, *parts = reason_of(hall, name)
-        names = [",".join(part) or "-" for part in parts if not part or isinstance(part[0], str)]
-        pairs = [text_of(part) for part in parts[len(names):]] if word != "never" else [text_of(parts[0])]
-        return " ".join([word] + (names if word in ("plans", "room") else []) + pairs)
+        if word in ("plans", "room"):
+            parts[0] = ",".join(parts[0]) or "-"
+        if word == "plans":
+            parts[1] = ",".join(parts[1])
+        return " ".join([word] + [text_of(part) for part in parts])
 
     def fetches(self, hall, name):
         if name not in [gang[0] for gang in hall.waiting_gangs()]:

@@ -522,6 +522,50 @@ class LongDrawnStories(unittest.TestCase):
                          [row[0] for row in rows if row[1] in ("goes", "called")])
 
 
+class SomewhatBeyondTheBounds(unittest.TestCase):
+    """What comes of it isn't promised, but it raises no error beside the refusals that are told."""
+
+    REFUSALS = {"house": {"Taken"}, "kind": {"Taken"}, "fetch": {"NoKind", "Taken", "TooMany"}, "shut": {"NoHouse"},
+                "open": {"NoHouse"}, "let": {"NoHouse", "InUse"}, "fall": {"NoHouse"}, "gang": {"Taken", "NoGuild"},
+                "plan": {"Taken", "NoGuild", "Past", "NoPlan"}, "quit": {"NoGang"}, "time": {"Past"}, "guild": set()}
+
+    def odd_event(self, chance, now):
+        event = some_event(chance, now)
+        gang = (chance.choice("abcdefghij"), chance.choice("gh"), chance.randrange(-1, 11), chance.choice([0, 1, 2, 3, 61]),
+                chance.choice(WANTS + ((0, 0),)), chance.choice(HOWS), chance.choice([0, 1, 5, 20, 40]))
+        return (event[0], gang, *event[2:]) if event[0] in ("gang", "plan") else event
+
+    def test_tasks_lengths_ranks_and_graces(self):
+        for seed in range(60):
+            chance = random.Random(seed)
+            hall = Hall(2, chance.choice([0, 1, 3, 1001]))
+            for event in all_events(chance, 70, self.odd_event):
+                there = [row[0] for row in hall.gang_rows()]
+                told = answer(hall, event)
+                if isinstance(told, str):
+                    self.assertIn(told.split()[0], self.REFUSALS[event[0]], (seed, event))
+                    self.assertFalse(event[0] == "quit" and event[1] in there, (seed, event))
+                all_of_hall(hall)
+                spare_now(hall)
+                for gang in hall.waiting_gangs():
+                    shows_reason(hall, gang[0], reason_of(hall, gang[0]))
+                    fetch_for(hall, gang[0])
+
+    def test_more_of_all_than_a_hall_should_have(self):
+        names = [one + other for one in "abcdefgh" for other in "abcdefgh"]
+        hall = Hall(9, 5)
+        for name in names:
+            hall.step(("guild", name, (1,) * 9))
+            hall.step(("house", name, name, (2,) * 9))
+            hall.step(("kind", name, name, (2,) * 9, 41))
+        for name in names:
+            hall.step(("gang", (name, name, 9, 2, (1,) * 9, "any", 10 ** 6 + 1)))
+            hall.step(("plan", (name + "x", name, 9, 1, (1,) * 9, "any", 10 ** 6 + 1), 2 * 10 ** 9))
+        self.assertEqual(len(hall.gang_rows()), 128)
+        hall.step(("time", 10 ** 6 + 1))
+        self.assertEqual([row[1] for row in hall.gang_rows()], ["planned"] * 64)
+
+
 class TheSameAgain(unittest.TestCase):
     def test_the_same_events_come_to_the_same(self):
         for seed in range(20):
